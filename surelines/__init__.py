@@ -1,0 +1,1 @@
+"""What's sure about a cache: always hit, always miss, and the ways that show neither."""
