@@ -11,6 +11,14 @@ class Bounds:
         self.possible = possible
 
 
+class Rounds:
+    """How many rounds were made, and the bounds before each node then, None if it isn't come to."""
+
+    def __init__(self, number, before):
+        self.number = number
+        self.before = before
+
+
 def bounds_of_state(state):
     ages = {}
     for held in state:
@@ -118,14 +126,16 @@ def are_same(one, other):
     return one.sure == other.sure and one.possible == other.possible
 
 
-def bounds_before_nodes(cache, graph, state):
-    """The bounds of each node when a round changes nothing any more, None if it isn't come to."""
+def all_rounds(cache, graph, state):
+    """Rounds from this state at first on, the last of which is the one that changes nothing."""
     at_first = bounds_of_state(state)
     before = [None for lines in graph.lines]
     before[0] = at_first
+    number = 0
     changed = True
     while changed:
         made = one_round(cache, graph, at_first, before)
+        number = number + 1
         changed = not all([are_same(one, other) for one, other in zip(before, made)])
         before = made
-    return before
+    return Rounds(number, before)

@@ -3,7 +3,7 @@
 from surelines.calls import Held, answer_of
 
 # How many whole numbers a call has, by its number, if it has no list.
-NUMBERS = {0: 3, 1: 1, 2: 1, 7: 1}
+NUMBERS = {0: 3, 1: 1, 2: 1, 7: 1, 8: 0, 9: 0, 10: 1, 11: 1, 12: 1, 13: 1, 14: 0}
 CALLS_WITH_A_LIST = (3, 4, 5, 6)
 
 

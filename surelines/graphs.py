@@ -19,6 +19,15 @@ def has_node(graph, number):
     return 0 <= number < len(graph.lines)
 
 
+def nodes_behind(graph, node):
+    """The nodes to which edges lead from this one, in the edges' order, each once."""
+    behind = []
+    for source, target in graph.edges:
+        if source == node and target not in behind:
+            behind.append(target)
+    return behind
+
+
 def lines_told_at(row, place):
     """The lines of the node that is told from this place of the row on, or None."""
     if place >= len(row) or not 0 <= row[place] <= MOST_LINES:

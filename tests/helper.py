@@ -37,6 +37,34 @@ def bounds(node):
     return [7, node]
 
 
+def classes():
+    return [8]
+
+
+def exact():
+    return [9]
+
+
+def states(node):
+    return [10, node]
+
+
+def show(node):
+    return [11, node]
+
+
+def first(node):
+    return [12, node]
+
+
+def most(nodes):
+    return [13, nodes]
+
+
+def size():
+    return [14]
+
+
 def split(told):
     """The answers one by one, from the list in which each stands behind its length."""
     parts = []
@@ -71,3 +99,22 @@ def graph_of(lines, edges):
     for source, target in edges:
         told += [source, target]
     return graph(*told)
+
+
+def fan_out(in_front):
+    """A cache and a graph with 400 moments, and one more for each node without lines in front.
+
+    All lines differ, and there are 4 ways: before the nodes 0 to 7 of the row there are 1, 3, 9, 27, 81, 81,
+    81 and 81 states, before the two nodes at its side, which stand behind 1 and 2, there are 9 and 27.
+    """
+    row_of_nodes = [[3 * node, 3 * node + 1, 3 * node + 2] for node in range(8)]
+    edges = [(node, node + 1) for node in range(7)] + [(1, 8), (2, 9)]
+    shifted = [(node, node + 1) for node in range(in_front)]
+    shifted += [(source + in_front, target + in_front) for source, target in edges]
+    return [cache(1, 4, 0), graph_of([[]] * in_front + row_of_nodes + [[], []], shifted)]
+
+
+def loop_of_lines(nodes):
+    """A cache and a graph with far too many moments, of so many nodes."""
+    lines = [[(3 * node + place) % 32 for place in range(3)] for node in range(nodes)]
+    return [cache(1, 4, 0), graph_of(lines, [(node, (node + 1) % nodes) for node in range(nodes)])]

@@ -4,6 +4,7 @@ There a bound is told for every line, with the room itself for a line that isn't
 joining is the greater (the lesser) number, line by line.
 """
 
+import itertools
 import random
 import unittest
 
@@ -64,9 +65,10 @@ class Words:
                 [min(ages) for ages in zip(*[possible for sure, possible in many])])
 
     def rounds(self, lines, edges, state):
+        """The bounds before each node, and how many rounds were made."""
         start = self.state_bounds(state)
         before = [start] + [None] * (len(lines) - 1)
-        while True:
+        for number in itertools.count(1):
             made = []
             for node in range(len(lines)):
                 many = [start] if node == 0 else []
@@ -76,7 +78,7 @@ class Words:
                         many += [self.touch_bounds(*known, x) for x in lines[source]] or [known]
                 made.append(self.join(many) if many else None)
             if made == before:
-                return before
+                return before, number
             before = made
 
     def told(self, known):
@@ -103,8 +105,11 @@ class Case:
         self.warm = [chance.choice(pool) for time in range(chance.randint(0, 6))]
         nodes = chance.randint(1, 12)
         self.lines = [chance.sample(pool, chance.randint(0, 3)) for node in range(nodes)]
-        count = chance.randint(0, 24)
-        self.edges = [(chance.randrange(nodes), chance.randrange(nodes)) for edge in range(count)]
+        # In most cases there's an edge to each node from one before it, so that it's come to.
+        self.edges = [(chance.randrange(node), node) for node in range(1, nodes) if seed % 4 > 0]
+        count = chance.randint(0, 24 - len(self.edges))
+        self.edges += [(chance.randrange(nodes), chance.randrange(nodes)) for edge in range(count)]
+        chance.shuffle(self.edges)
         self.row = [chance.choice(pool) for time in range(chance.randint(0, 40))]
         self.words = Words(self.sets, self.ways, self.rule, self.locked)
 
@@ -133,7 +138,7 @@ class AgainstWordsTest(unittest.TestCase):
     def test_bounds(self):
         for seed in range(300):
             case = Case(seed)
-            known = case.words.rounds(case.lines, case.edges, case.first_state())
+            known = case.words.rounds(case.lines, case.edges, case.first_state())[0]
             calls = [bounds(node) for node in range(len(case.lines))]
             answers = run(*case.before(), *calls)[-len(calls):]
             self.assertEqual(answers, [case.words.told(each) for each in known], seed)
